@@ -1,0 +1,1 @@
+"""Bothhands: text that runs both ways."""
