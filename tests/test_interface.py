@@ -2,6 +2,10 @@ import inspect
 import unittest
 
 from bothhands.books import Book
+from bothhands.forms import long_form, short_form
+from bothhands.nests import nests_of, own_base
+from bothhands.seams import long_together, seam_of, together
+from bothhands.steps import step_done, way_to
 from bothhands.wholes import kinds_of, wholes_of
 
 
@@ -11,6 +15,11 @@ class Interface(unittest.TestCase):
             (Book, ["signs", "mates", "joins"]), (Book.kind, ["self", "sign"]), (Book.rank, ["self", "sign"]),
             (Book.mate, ["self", "sign"]), (Book.parts, ["self", "sign"]), (Book.joined, ["self", "base", "mark"]),
             (wholes_of, ["book", "text"]), (kinds_of, ["book", "text"]),
+            (long_form, ["book", "text"]), (short_form, ["book", "text"]),
+            (step_done, ["book", "text", "step"]), (way_to, ["book", "one", "other"]),
+            (seam_of, ["book", "one", "other"]), (together, ["book", "one", "other"]),
+            (long_together, ["book", "one", "other"]),
+            (own_base, ["book", "text"]), (nests_of, ["book", "text", "base", "most"]),
         ]
         for function, names in told:
             with self.subTest(function=function):
@@ -26,6 +35,23 @@ class Interface(unittest.TestCase):
         wholes = wholes_of(book=book, text=[1, 5])
         self.assertEqual((type(wholes), type(wholes[0])), (list, list))
         self.assertIs(type(kinds_of(book=book, text=[1, 5])), list)
+
+    def test_what_may_be_left_out(self):
+        told = inspect.signature(nests_of).parameters
+        self.assertEqual(told["most"].default, 20)
+        self.assertIs(told["base"].default, inspect.Parameter.empty)
+
+    def test_the_kinds_of_what_forms_steps_seams_and_nests_tell(self):
+        book = Book(signs=[(5, "mark", 1), (6, "forein", 0)], mates=[], joins=[(3, 4, 5)])
+        self.assertEqual(long_form(book=book, text=[3]), [4, 5])
+        self.assertEqual(short_form(book=book, text=[4, 5]), [3])
+        self.assertEqual(step_done(book=book, text=[3], step=("open", 0)), [4, 5])
+        self.assertEqual(way_to(book=book, one=[3], other=[4, 5]), [("open", 0)])
+        self.assertEqual(seam_of(book=book, one=[4], other=[5]), (0, 1))
+        self.assertEqual(together(book=book, one=[4], other=[5]), [3])
+        self.assertEqual(long_together(book=book, one=[4], other=[5]), [4, 5])
+        self.assertEqual(own_base(book=book, text=[6]), 0)
+        self.assertEqual(nests_of(book=book, text=[6], base=0, most=2), [(0, 1, 2)])
 
 
 if __name__ == "__main__":

@@ -1,0 +1,100 @@
+"""Nothing that is handed in to forms, steps, seams and nests is changed, and what they tell is the asker's own."""
+
+import copy
+import unittest
+
+import sample
+from bothhands.books import Book
+from bothhands.errors import NoStep
+from bothhands.forms import long_form, short_form
+from bothhands.nests import nests_of, own_base
+from bothhands.seams import long_together, seam_of, together
+from bothhands.steps import step_done, way_to
+from sample import BACKIN, FOREIN, GREAT, M1, M2, M3, N1, OUT
+
+ASKED = [
+    (long_form, [12, M1, 22, M3, M1]), (long_form, [10, M1]), (long_form, []), (long_form, [M1, M2]),
+    (short_form, [10, M2, M1, 22]), (short_form, [12, N1]), (short_form, []), (short_form, [M1]),
+    (step_done, [10, M1, M2], ("turn", 1)), (step_done, [12], ("open", 0)), (step_done, [11, M2], ("join", 0)),
+    (way_to, [13, M1, 20], [11, M2, 20]), (way_to, [12], [12]), (way_to, [], []), (way_to, [207], [207]),
+    (together, [20, 15], [M1, 20]), (together, [11], []), (together, [], [11]), (together, [], []),
+    (long_together, [10, M2], [M1, 20]), (long_together, [10], []), (long_together, [], [M1, 10]),
+    (long_together, [], []),
+    (nests_of, [FOREIN, BACKIN, OUT, M1, OUT, OUT, BACKIN], 0), (nests_of, [], 1), (nests_of, [FOREIN, M1], 0, 0),
+]
+NOT_LISTS = [
+    (seam_of, [10, M1], [M1, 10]), (seam_of, [], []), (own_base, [20, M1]), (own_base, [FOREIN, 10, OUT]),
+    (way_to, [10], [20]),
+]
+
+
+class ToldLists(unittest.TestCase):
+    def setUp(self):
+        self.book = Book(sample.form_signs(), sample.mates(), sample.form_joins())
+
+    def all_of_the_book(self):
+        signs = list(range(210)) + [999, GREAT, GREAT - 1]
+        each = [(self.book.kind(s), self.book.rank(s), self.book.mate(s), self.book.parts(s)) for s in signs]
+        return each, [self.book.joined(base, mark) for base in signs for mark in sample.RANKS]
+
+    def test_what_is_handed_in_stays_as_it_was(self):
+        before = self.all_of_the_book()
+        for function, *handed in ASKED + NOT_LISTS:
+            kept = copy.deepcopy(handed)
+            function(self.book, *handed)
+            self.assertEqual(handed, kept)
+        self.assertEqual(self.all_of_the_book(), before)
+
+    def test_what_is_refused_stays_as_it_was(self):
+        for text, step in (([10, M1], ("turn", 0)), ([10], ("open", 0)), ([10, N1], ("join", 0)), ([], ("open", 3))):
+            kept = list(text)
+            with self.assertRaises(NoStep):
+                step_done(self.book, text, step)
+            self.assertEqual(text, kept)
+
+    def test_what_is_told_is_a_new_list(self):
+        for function, *handed in ASKED:
+            told = function(self.book, *handed)
+            self.assertIs(type(told), list)
+            self.assertIsNot(told, function(self.book, *handed))
+            for thing in handed:
+                self.assertIsNot(told, thing)
+
+    def test_a_told_list_changed_by_the_asker_changes_nothing(self):
+        for function, *handed in ASKED:
+            kept = copy.deepcopy(handed)
+            told = function(self.book, *handed)
+            before = list(told)
+            told.reverse()
+            told.append(7)
+            self.assertEqual(handed, kept)
+            self.assertEqual(function(self.book, *handed), before)
+            told.clear()
+            self.assertEqual(function(self.book, *handed), before)
+
+    def test_what_was_told_stays_when_the_text_is_changed_or_more_is_asked(self):
+        for function, *handed in ASKED:
+            told = function(self.book, *copy.deepcopy(handed))
+            before = list(told)
+            changed = copy.deepcopy(handed)
+            again = function(self.book, *changed)
+            for thing in changed:
+                if isinstance(thing, list):
+                    thing.reverse()
+                    thing.append(20)
+                    thing.clear()
+            for other, *others in ASKED + NOT_LISTS:
+                other(self.book, *copy.deepcopy(others))
+            self.assertEqual((told, again), (before, before))
+
+    def test_one_list_handed_in_twice(self):
+        text = [10, M1]
+        self.assertEqual(way_to(self.book, text, text), [])
+        self.assertEqual(long_together(self.book, text, text), [10, M1, 10, M1])
+        marks = [M1]
+        self.assertEqual(together(self.book, marks, marks), [M1, M1])
+        self.assertEqual((text, marks), ([10, M1], [M1]))
+
+
+if __name__ == "__main__":
+    unittest.main()
