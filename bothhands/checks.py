@@ -1,4 +1,4 @@
-"""What a whole number and a sign are, asked of things of any sort."""
+"""What a whole number, a sign, a number up to another one and a span are, asked of things of any sort."""
 
 
 def is_whole_number(thing):
@@ -8,3 +8,11 @@ def is_whole_number(thing):
 
 def is_sign(thing):
     return is_whole_number(thing) and thing >= 0
+
+
+def is_number_to(thing, greatest):
+    return is_sign(thing) and thing <= greatest
+
+
+def is_span(start, end, number):
+    return is_number_to(end, number) and is_number_to(start, end)

@@ -20,6 +20,10 @@ def own_base(book, text):
     return 0
 
 
+def base_or_own(book, text, base):
+    return own_base(book, text) if base is None else base
+
+
 def level_within(kind, level, most):
     remainder = 0 if kind == "forein" else 1
     least = level + 1

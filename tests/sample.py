@@ -36,6 +36,22 @@ def joins():
     ]
 
 
+# Texts of the sample's book, written with a letter for each sign.
+LETTERS = {
+    "F": FORE, "B": BACK, "N": NUM, "_": BLANK, "p": UNTOLD, "'": LOW, "f": FOREIN, "b": BACKIN, "o": OUT,
+    "(": OPEN, ")": SHUT, "[": OTHER_OPEN, "]": OTHER_SHUT,
+}
+
+
+def spelled(letters):
+    return [LETTERS[letter] for letter in letters]
+
+
+def spelled_texts(number, most_signs, seed, letters="FFBBNN_p'fboo()[]"):
+    chosen = random.Random(seed)
+    return [spelled(chosen.choices(letters, k=chosen.randrange(most_signs + 1))) for k in range(number)]
+
+
 # A book of bases with marks: the ranks of M1 and N1 are alike, and those of M2 and N2.
 M1, N1, M2, N2, M3, MG = 91, 92, 93, 94, 95, 96
 RANKS = {M1: 1, N1: 1, M2: 2, N2: 2, M3: 3, MG: GREAT}

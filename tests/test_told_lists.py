@@ -1,4 +1,4 @@
-"""Nothing that is handed in to forms, steps, seams and nests is changed, and what they tell is the asker's own."""
+"""Nothing that is handed in to the functions that take a book is changed, and what they tell is the asker's own."""
 
 import copy
 import unittest
@@ -7,10 +7,12 @@ import sample
 from bothhands.books import Book
 from bothhands.errors import NoStep
 from bothhands.forms import long_form, short_form
+from bothhands.levels import levels_of
 from bothhands.nests import nests_of, own_base
+from bothhands.rows import cut_rows, row_levels, row_shown
 from bothhands.seams import long_together, seam_of, together
 from bothhands.steps import step_done, way_to
-from sample import BACKIN, FOREIN, GREAT, M1, M2, M3, N1, OUT
+from sample import BACKIN, FOREIN, GREAT, M1, M2, M3, N1, OPEN, OUT
 
 ASKED = [
     (long_form, [12, M1, 22, M3, M1]), (long_form, [10, M1]), (long_form, []), (long_form, [M1, M2]),
@@ -21,6 +23,10 @@ ASKED = [
     (long_together, [10, M2], [M1, 20]), (long_together, [10], []), (long_together, [], [M1, 10]),
     (long_together, [], []),
     (nests_of, [FOREIN, BACKIN, OUT, M1, OUT, OUT, BACKIN], 0), (nests_of, [], 1), (nests_of, [FOREIN, M1], 0, 0),
+    (levels_of, [20, M1, 30, FOREIN, 10, OPEN, 0]), (levels_of, [], 1), (levels_of, [20, 10], 0, 0),
+    (cut_rows, [20, M1, 0, 10], 3), (cut_rows, [], 1), (cut_rows, [10, 20], 2),
+    (row_levels, [20, 10, 0, M1], (0, 3)), (row_levels, [10, 20], (1, 1), 0, 3), (row_levels, [], (0, 0)),
+    (row_shown, [20, M1, OPEN, M2, 30, 0], (0, 4), 1), (row_shown, [10, 20], (0, 0)), (row_shown, [], (0, 0)),
 ]
 NOT_LISTS = [
     (seam_of, [10, M1], [M1, 10]), (seam_of, [], []), (own_base, [20, M1]), (own_base, [FOREIN, 10, OUT]),
@@ -64,7 +70,10 @@ class ToldLists(unittest.TestCase):
         for function, *handed in ASKED:
             kept = copy.deepcopy(handed)
             told = function(self.book, *handed)
-            before = list(told)
+            before = copy.deepcopy(told)
+            for thing in told:
+                if isinstance(thing, list):
+                    thing.append(7)
             told.reverse()
             told.append(7)
             self.assertEqual(handed, kept)
@@ -75,7 +84,7 @@ class ToldLists(unittest.TestCase):
     def test_what_was_told_stays_when_the_text_is_changed_or_more_is_asked(self):
         for function, *handed in ASKED:
             told = function(self.book, *copy.deepcopy(handed))
-            before = list(told)
+            before = copy.deepcopy(told)
             changed = copy.deepcopy(handed)
             again = function(self.book, *changed)
             for thing in changed:
