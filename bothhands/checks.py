@@ -1,4 +1,6 @@
-"""What a whole number, a sign, a number up to another one and a span are, asked of things of any sort."""
+"""Checks that are asked of things of any sort: of whole numbers, signs, numbers up to another one, and spans."""
+
+from bothhands.errors import NoPlace
 
 
 def is_whole_number(thing):
@@ -14,5 +16,7 @@ def is_number_to(thing, greatest):
     return is_sign(thing) and thing <= greatest
 
 
-def is_span(start, end, number):
-    return is_number_to(end, number) and is_number_to(start, end)
+# The words of a refusal don't show the thing itself: some things can't be shown.
+def check_span(start, end, number):
+    if not is_number_to(end, number) or not is_number_to(start, end):
+        raise NoPlace("a span goes from a place that is there up to one that is no less and is there, too")

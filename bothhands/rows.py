@@ -1,6 +1,6 @@
 """Rows: a text cut by a width, the levels of a row, and a row laid in the order in which it is seen."""
 
-from bothhands.checks import is_span, is_whole_number
+from bothhands.checks import check_span, is_whole_number
 from bothhands.errors import NoPlace, NoWidth
 from bothhands.levels import levels_of
 from bothhands.nests import base_or_own
@@ -15,8 +15,9 @@ def check_width(width):
 
 
 def check_row(row, number):
-    if not isinstance(row, tuple) or len(row) != 2 or not is_span(row[0], row[1], number):
-        raise NoPlace("a row goes from one whole sign of the text up to ahead of another one")
+    if not isinstance(row, tuple) or len(row) != 2:
+        raise NoPlace("a row is a tuple of two whole numbers")
+    check_span(row[0], row[1], number)
 
 
 def row_end(kinds, start, width):

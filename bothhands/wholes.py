@@ -11,6 +11,13 @@ def wholes_of(book, text):
     return wholes
 
 
+def signs_of(wholes):
+    signs = []
+    for whole in wholes:
+        signs.extend(whole)
+    return signs
+
+
 def kind_of_whole(book, whole):
     kind = book.kind(whole[0])
     if kind == "mark":

@@ -3,11 +3,12 @@ import unittest
 
 import sample
 from bothhands.books import Book
-from bothhands.errors import HandsError, NoBook, NoPlace, NoStep, NoWhat, NoWidth
+from bothhands.errors import NoWidth
 from bothhands.forms import long_form, short_form
 from bothhands.rows import cut_rows
 from bothhands.wholes import kinds_of
 from odd_things import NO_SIGNS
+from refusing import Refusing
 from sample import BLANK, FORE, GREAT, spelled
 
 
@@ -108,7 +109,7 @@ class CutRows(unittest.TestCase):
                 self.assertEqual(cut_rows(book, short_form(book, text), width), wanted)
 
 
-class WrongWidths(unittest.TestCase):
+class WrongWidths(Refusing):
     def setUp(self):
         self.book = Book(sample.signs(), sample.mates(), sample.joins())
 
@@ -116,20 +117,11 @@ class WrongWidths(unittest.TestCase):
         for k, thing in enumerate(NO_SIGNS + [0, -2, [3], (3,), "3", {3: 3}]):
             for letters in ("", "F", "F_B"):
                 with self.subTest(k=k):
-                    with self.assertRaises(NoWidth):
-                        cut_rows(self.book, spelled(letters), thing)
-
-    def test_what_the_refusal_is_taken_as(self):
-        for taken in (NoWidth, HandsError, ValueError):
-            with self.assertRaises(taken) as caught:
-                cut_rows(self.book, [FORE], 0)
-            for other in (NoBook, NoStep, NoPlace, NoWhat):
-                self.assertNotIsInstance(caught.exception, other)
+                    self.refuses(NoWidth, cut_rows, self.book, spelled(letters), thing)
 
     def test_the_text_stays(self):
         text = [FORE, BLANK]
-        with self.assertRaises(NoWidth):
-            cut_rows(self.book, text, None)
+        self.refuses(NoWidth, cut_rows, self.book, text, None)
         self.assertEqual(text, [FORE, BLANK])
 
 

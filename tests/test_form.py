@@ -93,6 +93,43 @@ class Form(unittest.TestCase):
                     self.assertIn(PACKAGE / (node.module.split(".")[1] + ".py"), self.files)
                     self.assertNotIn("*", [alias.name for alias in node.names])
 
+    def test_imported_names_are_defined_there_and_no_two_files_draw_from_one_another(self):
+        defined, drawn = {}, {}
+        for path, tree in self.trees:
+            nodes = [node for node in tree.body if isinstance(node, (ast.FunctionDef, ast.ClassDef))]
+            values = [node.targets[0].id for node in tree.body if isinstance(node, ast.Assign)]
+            defined["bothhands." + path.stem] = [node.name for node in nodes] + values
+            drawn["bothhands." + path.stem] = [node for node in tree.body if isinstance(node, ast.ImportFrom)]
+        for nodes in drawn.values():
+            for node in nodes:
+                self.assertLessEqual({alias.name for alias in node.names}, set(defined[node.module]))
+        done = []
+        while len(done) < len(drawn):
+            free = [name for name, nodes in drawn.items()
+                    if name not in done and all(node.module in done for node in nodes)]
+            self.assertNotEqual(free, [])
+            done += free
+
+    def test_no_local_is_called_like_a_class_or_an_import(self):
+        for path, tree in self.trees:
+            taken = {alias.asname or alias.name for node in ast.walk(tree) if isinstance(node, ast.ImportFrom)
+                     for alias in node.names} | {node.name for node in tree.body if isinstance(node, ast.ClassDef)}
+            for node in ast.walk(tree):
+                if isinstance(node, ast.arg):
+                    self.assertNotIn(node.arg, taken, path)
+                if isinstance(node, ast.Name) and isinstance(node.ctx, ast.Store):
+                    self.assertNotIn(node.id, taken, path)
+
+    def test_no_name_is_both_a_method_and_a_value(self):
+        methods, values = set(), set()
+        for path, tree in self.trees:
+            for node in ast.walk(tree):
+                if isinstance(node, ast.ClassDef):
+                    methods |= {method.name for method in node.body if isinstance(method, ast.FunctionDef)}
+                if isinstance(node, ast.Attribute) and isinstance(node.ctx, ast.Store):
+                    values.add(node.attr)
+        self.assertEqual(methods & values, set())
+
     def test_names(self):
         for path, tree in self.trees:
             for name in names_bound(tree):

@@ -156,7 +156,8 @@ class Nests(unittest.TestCase):
         self.assertEqual(nests_of(self.book, text, 0), [(k, 12, 2 * k + 2 if k < 10 else None) for k in range(12)])
         self.assertEqual(nests_of(self.book, [BACKIN], 19), [(0, 1, None)])
         self.assertEqual(nests_of(self.book, [FOREIN], 19), [(0, 1, 20)])
-        self.assertEqual(nests_of(self.book, [FOREIN, BACKIN, OUT], 5), nests_of(self.book, [FOREIN, BACKIN, OUT], 5, 20))
+        text = [FOREIN, BACKIN, OUT]
+        self.assertEqual(nests_of(self.book, text, 5), nests_of(self.book, text, 5, 20))
 
     def test_the_most_by_its_name(self):
         self.assertEqual(nests_of(self.book, [FOREIN], base=0, most=1), [(0, 1, None)])

@@ -2,7 +2,7 @@ import unittest
 
 import sample
 from bothhands.books import Book
-from bothhands.errors import HandsError, NoBook, NoPlace, NoStep, NoWhat, NoWidth
+from bothhands.errors import NoPlace
 from bothhands.forms import long_form, short_form
 from bothhands.levels import levels_of
 from bothhands.nests import own_base
@@ -10,6 +10,7 @@ from bothhands.orders import order_of
 from bothhands.rows import cut_rows, row_levels, row_shown
 from bothhands.wholes import kinds_of, wholes_of
 from odd_things import NO_SIGNS, NO_WHOLE_NUMBERS
+from refusing import Refusing
 from sample import BACK, BLANK, FORE, GREAT, HIGH, LOW, OPEN, OTHER_OPEN, OTHER_SHUT, SHUT, spelled
 
 MATES = {OPEN: SHUT, SHUT: OPEN, OTHER_OPEN: OTHER_SHUT, OTHER_SHUT: OTHER_OPEN}
@@ -20,7 +21,7 @@ def all_rows(number):
     return [(start, end) for end in range(number + 1) for start in range(end + 1)]
 
 
-class Rows(unittest.TestCase):
+class Rows(Refusing):
     def setUp(self):
         self.book = Book(sample.signs(), sample.mates(), sample.joins())
 
@@ -197,7 +198,8 @@ class All(Rows):
 
     def test_the_one_ahead_is_seen_at_the_left_where_the_least_level_is_even(self):
         # Each sign of this text is told apart.
-        book = Book([(k, ("fore", "back", "num", "blank", "forein", "backin", "out")[k % 7], 0) for k in range(40)], [], [])
+        kinds = ("fore", "back", "num", "blank", "forein", "backin", "out")
+        book = Book([(k, kinds[k % 7], 0) for k in range(40)], [], [])
         for text in ([(k * 9) % 40 for k in range(40)], [(k * 23) % 40 for k in range(40)], list(range(40))):
             for row in cut_rows(book, text, 15):
                 levels = row_levels(book, text, row)
@@ -222,13 +224,8 @@ class WrongRows(Rows):
     def refused(self, text, row):
         for function in (row_levels, row_shown):
             kept = list(text)
-            with self.assertRaises(NoPlace) as caught:
-                function(self.book, text, row)
+            self.refuses(NoPlace, function, self.book, text, row)
             self.assertEqual(text, kept)
-            for taken in (HandsError, ValueError):
-                self.assertIsInstance(caught.exception, taken)
-            for other in (NoBook, NoStep, NoWidth, NoWhat):
-                self.assertNotIsInstance(caught.exception, other)
 
     def test_all_rows_of_small_numbers(self):
         for letters in ("", "F", "F'B", "'F_'B'"):

@@ -5,9 +5,10 @@ import unittest
 
 import sample
 from bothhands.books import Book
-from bothhands.errors import NoStep
+from bothhands.errors import HandsError
 from bothhands.forms import long_form, short_form
 from bothhands.levels import levels_of
+from bothhands.looks import compared, found_at, part_of, replaced, same_text
 from bothhands.nests import nests_of, own_base
 from bothhands.rows import cut_rows, row_levels, row_shown
 from bothhands.seams import long_together, seam_of, together
@@ -27,10 +28,21 @@ ASKED = [
     (cut_rows, [20, M1, 0, 10], 3), (cut_rows, [], 1), (cut_rows, [10, 20], 2),
     (row_levels, [20, 10, 0, M1], (0, 3)), (row_levels, [10, 20], (1, 1), 0, 3), (row_levels, [], (0, 0)),
     (row_shown, [20, M1, OPEN, M2, 30, 0], (0, 4), 1), (row_shown, [10, 20], (0, 0)), (row_shown, [], (0, 0)),
+    (found_at, [10, 20, 11], [10, M1]), (found_at, [], [10]), (found_at, [10], [10]),
+    (replaced, [10, 20, 10], [10], [30, M1]), (replaced, [10], [20], [10]), (replaced, [10], [10], [20]),
+    (replaced, [], [10], [20]), (replaced, [10], [10], []),
+    (part_of, [10, M2, M1, 20], 0, 1), (part_of, [10, 20], 0, 2), (part_of, [10], 1, 1), (part_of, [], 0, 0),
 ]
 NOT_LISTS = [
     (seam_of, [10, M1], [M1, 10]), (seam_of, [], []), (own_base, [20, M1]), (own_base, [FOREIN, 10, OUT]),
-    (way_to, [10], [20]),
+    (way_to, [10], [20]), (same_text, [12, M1], [10, M2, M1, M1]), (same_text, [], []), (same_text, [10], [20]),
+    (compared, [12, M1], [10, M2, M1, M1]), (compared, [], [10]), (compared, [M2, M1], [M1]),
+]
+REFUSED = [
+    (step_done, [10, M1], ("turn", 0)), (step_done, [10], ("open", 0)), (step_done, [10, N1], ("join", 0)),
+    (step_done, [], ("open", 3)), (cut_rows, [10, M2, M1], 0), (row_levels, [10, M2, M1], (0, 2)),
+    (row_shown, [10, M2, M1], (1, 0)), (found_at, [10, M2, M1], []), (replaced, [10, M2, M1], [], [20, M2, M1]),
+    (part_of, [10, M2, M1], 0, 2),
 ]
 
 
@@ -52,11 +64,11 @@ class ToldLists(unittest.TestCase):
         self.assertEqual(self.all_of_the_book(), before)
 
     def test_what_is_refused_stays_as_it_was(self):
-        for text, step in (([10, M1], ("turn", 0)), ([10], ("open", 0)), ([10, N1], ("join", 0)), ([], ("open", 3))):
-            kept = list(text)
-            with self.assertRaises(NoStep):
-                step_done(self.book, text, step)
-            self.assertEqual(text, kept)
+        for function, *handed in REFUSED:
+            kept = copy.deepcopy(handed)
+            with self.assertRaises(HandsError):
+                function(self.book, *handed)
+            self.assertEqual(handed, kept)
 
     def test_what_is_told_is_a_new_list(self):
         for function, *handed in ASKED:
@@ -100,6 +112,8 @@ class ToldLists(unittest.TestCase):
         text = [10, M1]
         self.assertEqual(way_to(self.book, text, text), [])
         self.assertEqual(long_together(self.book, text, text), [10, M1, 10, M1])
+        self.assertEqual(replaced(self.book, text, text, text), [10, M1])
+        self.assertEqual(found_at(self.book, text, text), [0])
         marks = [M1]
         self.assertEqual(together(self.book, marks, marks), [M1, M1])
         self.assertEqual((text, marks), ([10, M1], [M1]))
